@@ -8,6 +8,7 @@ import (
 	"bodkin/api"
 	"bodkin/layout"
 	"bodkin/paint"
+	"bodkin/screen"
 )
 
 // pieces has clusters of every kind, and what joins with a neighbour or is cut through.
@@ -43,7 +44,7 @@ var before = []string{
 	strings.Repeat("x", 20), strings.Repeat("\u4e00", 10), strings.Repeat("x", 200), strings.Repeat("\n", 30) + "e\u0301", "\x1b[K\x1b[J\x1b[m\x1b[5n", "e\xcc",
 }
 
-// lookAtFull asks for what Full answers, and for what a terminal then shows, whatever it was given before.
+// lookAtFull asks for what Full answers, and for what a screen then shows, whatever it was given before.
 func lookAtFull(t *testing.T, f api.Frame) {
 	t.Helper()
 	if !paint.Fit(f) {
@@ -55,17 +56,17 @@ func lookAtFull(t *testing.T, f api.Frame) {
 	}
 	for _, s := range before {
 		for _, more := range []int{0, 1, 3} {
-			x := newTerminal(f.Width, len(f.Rows)+more)
-			x.feed(s)
-			x.feed(got)
-			if !x.shows(f) || x.held != "" {
-				t.Fatalf("P21.4: behind %q and Full(%v) on %d rows it shows %v, the cursor %d, %d", s, f, x.high, x.rows, x.row, x.col)
+			x := screen.New(f.Width, len(f.Rows)+more)
+			x.Feed(s)
+			x.Feed(got)
+			if !x.Shows(f) || x.Held() != 0 {
+				t.Fatalf("P21.4: behind %q and Full(%v) on %d rows it shows %v", s, f, x.Height(), x.Frame(x.Height()))
 			}
 		}
 	}
 }
 
-// lookAtNext asks for what Next answers, and for what a terminal then shows that showed the frame shown.
+// lookAtNext asks for what Next answers, and for what a screen then shows that showed the frame shown.
 func lookAtNext(t *testing.T, shown, f api.Frame) {
 	t.Helper()
 	got := paint.Next(shown, f)
@@ -76,37 +77,37 @@ func lookAtNext(t *testing.T, shown, f api.Frame) {
 		return
 	}
 	for _, more := range []int{0, 2} {
-		for _, way := range []func(*terminal, api.Frame){
-			func(x *terminal, g api.Frame) { x.feed(fully(g)) },
+		for _, way := range []func(*screen.Screen, api.Frame){
+			func(x *screen.Screen, g api.Frame) { x.Feed(fully(g)) },
 			paintOver,
 		} {
-			x := newTerminal(f.Width, max(len(f.Rows), len(shown.Rows))+more)
+			x := screen.New(f.Width, max(len(f.Rows), len(shown.Rows))+more)
 			way(x, shown)
-			if !x.shows(shown) {
-				t.Fatalf("the terminal doesn't show %v", shown)
+			if !x.Shows(shown) || x.Held() != 0 {
+				t.Fatalf("the screen doesn't show %v", shown)
 			}
-			x.feed(got)
-			if !x.shows(f) || x.held != "" {
-				t.Fatalf("P21.4: behind %v and Next of %v on %d rows it shows %v, the cursor %d, %d", shown, f, x.high, x.rows, x.row, x.col)
+			x.Feed(got)
+			if !x.Shows(f) || x.Held() != 0 {
+				t.Fatalf("P21.4: behind %v and Next of %v on %d rows it shows %v", shown, f, x.Height(), x.Frame(x.Height()))
 			}
 		}
 	}
 }
 
-// paintOver lets a terminal show f that is full of wide things at first, and lets the cursor stand behind a full row where it can.
-func paintOver(x *terminal, f api.Frame) {
-	x.feed(strings.Repeat("\u4e00", x.wide*x.high))
-	for i := range x.high {
-		x.feed(to(i, 0) + "\x1b[K")
+// paintOver lets a screen show f that is full of wide things at first, and lets the cursor stand behind a full row where it can.
+func paintOver(x *screen.Screen, f api.Frame) {
+	x.Feed(strings.Repeat("\u4e00", x.Width()*x.Height()))
+	for i := range x.Height() {
+		x.Feed(to(i, 0) + "\x1b[K")
 		if i < len(f.Rows) {
-			x.feed(texts(f.Rows[i]))
+			x.Feed(texts(f.Rows[i]))
 		}
 	}
-	x.feed(to(f.Cursor.Row, f.Cursor.Col))
+	x.Feed(to(f.Cursor.Row, f.Cursor.Col))
 	cells := f.Rows[f.Cursor.Row]
 	if last := len(cells) - 1; len(cells) == f.Width && f.Cursor.Col == last && cells[last].Span == 1 {
-		x.feed(cells[last].Text)
-		if !x.full {
+		x.Feed(cells[last].Text)
+		if !x.Full() {
 			panic("the cell that was written isn't the last one")
 		}
 	}
@@ -132,31 +133,59 @@ func TestLaid(t *testing.T) {
 	}
 }
 
-// TestEdited has the frames of a text that is edited in one place, step by step, on one terminal.
+// TestEdited has the frames of a text that is edited in one place, step by step, on one screen.
 func TestEdited(t *testing.T) {
 	for seed := range uint64(60) {
 		next := numbers(seed)
 		width := 1 + next(9)
 		text := mixed(next, 10)
 		shown := layout.Lay("> ", text, 0, width)
-		x := newTerminal(width, 80)
-		x.feed(paint.Full(shown))
+		x := screen.New(width, 80)
+		x.Feed(paint.Full(shown))
 		for range 40 {
 			at, cut := next(len(text)+1), next(3)
 			text = text[:at] + mixed(next, next(3)) + text[min(at+cut, len(text)):]
 			f := layout.Lay("> ", text, at, width)
-			if len(f.Rows) > x.high {
+			if len(f.Rows) > x.Height() {
 				break
 			}
 			out := paint.Next(shown, f)
 			if want := nextly(shown, f); out != want {
 				t.Fatalf("P21.3: Next(%v, %v): %q, want %q", shown, f, out, want)
 			}
-			x.feed(out)
-			if !x.shows(f) {
-				t.Fatalf("P21.4: behind Next(%v, %v) it shows %v", shown, f, x.rows)
+			x.Feed(out)
+			if !x.Shows(f) {
+				t.Fatalf("P21.4: behind Next(%v, %v) it shows %v", shown, f, x.Frame(x.Height()))
 			}
 			shown = f
+		}
+	}
+}
+
+// TestAnythingBefore has any bytes ahead of what Full paints, and ones that change nothing that is seen ahead of what Next paints.
+func TestAnythingBefore(t *testing.T) {
+	next := numbers(4)
+	for range 4000 {
+		width := 1 + next(8)
+		bytes := make([]byte, next(60))
+		for i := range bytes {
+			bytes[i] = byte(next(256))
+			if next(2) == 0 {
+				bytes[i] = "ab \n\x1b[2;HJKm\xe4\xb8\x80\xcc\x81"[next(17)]
+			}
+		}
+		text := mixed(next, next(14))
+		shown, f := layout.Lay("> ", text, next(len(text)+1), width), layout.Lay("", mixed(next, next(14)), 0, width)
+		x := screen.New(width, max(len(shown.Rows), len(f.Rows))+next(3))
+		x.Feed(string(bytes))
+		x.Feed(paint.Full(shown))
+		if !x.Shows(shown) || x.Held() != 0 {
+			t.Fatalf("P21.4: behind %q and Full(%v) it shows %v", bytes, shown, x.Frame(x.Height()))
+		}
+		x.Feed([]string{"", "\x1b[m", "\x1bc", "\x07", "\x1b[5n\u0301", "\x1b[\x00"}[next(6)])
+		x.Feed(paint.Next(shown, f))
+		if !x.Shows(f) || x.Held() != 0 {
+			t.Fatalf("P21.4: behind Next(%v, %v) it shows %v", shown, f, x.Frame(x.Height()))
 		}
 	}
 }

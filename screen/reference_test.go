@@ -1,39 +1,45 @@
-package paint_test
+package screen_test
 
 import (
+	"slices"
 	"strconv"
 	"strings"
 	"testing"
 
 	"bodkin/api"
+	"bodkin/screen"
 	"bodkin/unit"
 	"bodkin/width"
 )
 
-// terminal is a terminal as layer 22's chapter describes it, made as plainly as can be.
+// terminal is a terminal as the chapter describes it, made as plainly as can be: all its cells are there, and bytes that are held back are read anew with those that come behind them.
 type terminal struct {
 	wide, high int
 	rows       [][]api.Cell
 	row, col   int
 	full       bool
-	// last is the cell that a mark would be laid upon, if there is one.
-	last *api.Cell
-	held string
+	// marked is the place of the cell that a mark would be laid upon, if there is one.
+	marked api.Place
+	marks  bool
+	held   string
 }
+
+// blank is the chapter's blank cell.
+var blank = api.Cell{Text: " ", Span: 1}
 
 // newTerminal answers a blank terminal.
 func newTerminal(wide, high int) *terminal {
 	t := &terminal{wide: wide, high: high}
 	for range high {
-		t.rows = append(t.rows, t.blankRow())
+		t.rows = append(t.rows, blanks(wide))
 	}
 	return t
 }
 
-// blankRow answers a row of blank cells.
-func (t *terminal) blankRow() []api.Cell {
+// blanks answers a row of blank cells.
+func blanks(n int) []api.Cell {
 	var list []api.Cell
-	for range t.wide {
+	for range n {
 		list = append(list, blank)
 	}
 	return list
@@ -56,10 +62,10 @@ func (t *terminal) feed(s string) {
 func (t *terminal) one(s string) int {
 	switch c := s[0]; {
 	case c == 0x1b:
-		t.last = nil
+		t.marks = false
 		return t.sequence(s)
 	case c < 0x20 || c == 0x7f:
-		t.last, t.full = nil, false
+		t.marks, t.full = false, false
 		switch c {
 		case 0x08:
 			t.col = max(t.col-1, 0)
@@ -81,10 +87,10 @@ func (t *terminal) one(s string) int {
 func (t *terminal) unit(own string, c rune) {
 	switch width.Class(c) {
 	case api.ClassControl:
-		t.last, t.full = nil, false
+		t.marks, t.full = false, false
 	case api.ClassMark:
-		if t.last != nil {
-			t.last.Text += own
+		if t.marks {
+			t.rows[t.marked.Row][t.marked.Col].Text += own
 		}
 	case api.ClassBad:
 		t.write("\uFFFD", 1)
@@ -105,7 +111,7 @@ func (t *terminal) down() {
 		t.row++
 		return
 	}
-	t.rows = append(t.rows[1:], t.blankRow())
+	t.rows = append(t.rows[1:], blanks(t.wide))
 }
 
 // clear makes a cell blank, and the other half of a wide one.
@@ -130,7 +136,7 @@ func (t *terminal) write(text string, span int) {
 		t.clear(t.row, t.col+n)
 	}
 	t.rows[t.row][t.col] = api.Cell{Text: text, Span: span}
-	t.last = &t.rows[t.row][t.col]
+	t.marked, t.marks = api.Place{Row: t.row, Col: t.col}, true
 	if span == 2 {
 		t.rows[t.row][t.col+1] = api.Cell{}
 	}
@@ -198,7 +204,7 @@ func (t *terminal) carryOut(inside string, end byte) {
 	case end == 'J':
 		t.clearRight()
 		for i := t.row + 1; i < t.high; i++ {
-			t.rows[i] = t.blankRow()
+			t.rows[i] = blanks(t.wide)
 		}
 	case end == 'K':
 		t.clearRight()
@@ -212,68 +218,77 @@ func (t *terminal) clearRight() {
 	}
 }
 
-// shown answers a row without the blanks at its end.
-func (t *terminal) shown(row int) []api.Cell {
-	cells := t.rows[row]
-	for len(cells) > 0 && cells[len(cells)-1] == blank {
-		cells = cells[:len(cells)-1]
+// resize makes the terminal so many columns wide.
+func (t *terminal) resize(wide int) {
+	for i, cells := range t.rows {
+		for col := wide; col < t.wide; col++ {
+			t.clear(i, col)
+		}
+		t.rows[i] = append(cells, blanks(max(wide-t.wide, 0))...)[:wide]
 	}
-	return cells
+	t.wide = wide
+	t.col = min(t.col, wide-1)
+	t.full, t.marks = false, false
 }
 
-// shows answers whether the terminal shows f.
-func (t *terminal) shows(f api.Frame) bool {
-	if f.Width != t.wide || len(f.Rows) < 1 || len(f.Rows) > t.high {
-		return false
+// clone answers a terminal of its own that is the same.
+func (t *terminal) clone() *terminal {
+	c := *t
+	c.rows = nil
+	for _, cells := range t.rows {
+		c.rows = append(c.rows, slices.Clone(cells))
 	}
-	for i := range t.rows {
-		var want []api.Cell
-		if i < len(f.Rows) {
-			want = f.Rows[i]
-		}
-		if !alikeRows(t.shown(i), want) {
-			return false
-		}
-	}
-	return f.Cursor.Row == t.row && f.Cursor.Col == t.col
+	return &c
 }
 
-// TestTerminal holds the terminal itself against examples of layer 22's chapter, whole and byte by byte.
-func TestTerminal(t *testing.T) {
-	for _, x := range []struct {
-		bytes    string
-		rows     [2][]api.Cell
-		row, col int
-		full     bool
-		held     int
-	}{
-		{"abc", [2][]api.Cell{row("a", "b", "c"), nil}, 0, 2, true, 0},
-		{"abcd", [2][]api.Cell{row("a", "b", "c"), row("d")}, 1, 1, false, 0},
-		{"abc\rX", [2][]api.Cell{row("X", "b", "c"), nil}, 0, 1, false, 0},
-		{"ab\u4e00", [2][]api.Cell{row("a", "b"), wide("\u4e00")}, 1, 2, false, 0},
-		{"a\u4e00", [2][]api.Cell{join(row("a"), wide("\u4e00")), nil}, 0, 2, true, 0},
-		{"a\u4e00\x08x", [2][]api.Cell{row("a", "x"), nil}, 0, 2, false, 0},
-		{"abcdefg", [2][]api.Cell{row("d", "e", "f"), row("g")}, 1, 1, false, 0},
-		{"e\u0301", [2][]api.Cell{row("e\u0301"), nil}, 0, 1, false, 0},
-		{"e\r\u0301", [2][]api.Cell{row("e"), nil}, 0, 0, false, 0},
-		{"a\x1b[2;9Hb", [2][]api.Cell{row("a"), row(" ", " ", "b")}, 1, 2, true, 0},
-		{"abc\x1b[Kd", [2][]api.Cell{row("a", "b"), row("d")}, 1, 1, false, 0},
-		{"\x1b[1", [2][]api.Cell{nil, nil}, 0, 0, false, 3},
-		{"\x1b[1m", [2][]api.Cell{nil, nil}, 0, 0, false, 0},
-		{"\x1b[1\x1b[2;2Hx", [2][]api.Cell{nil, row(" ", "x")}, 1, 2, false, 0},
-		{"\xe4\xb8", [2][]api.Cell{nil, nil}, 0, 0, false, 2},
-		{"\xe4\xb8a", [2][]api.Cell{row("\uFFFD", "\uFFFD", "a"), nil}, 0, 2, true, 0},
-		{"\x1bcx", [2][]api.Cell{row("x"), nil}, 0, 1, false, 0},
-	} {
-		whole, pieces := newTerminal(3, 2), newTerminal(3, 2)
-		whole.feed(x.bytes)
-		for i := range len(x.bytes) {
-			pieces.feed(x.bytes[i : i+1])
+// frame answers the first rows without the blanks at their ends, and the cursor.
+func (t *terminal) frame(rows int) api.Frame {
+	f := api.Frame{Width: t.wide, Cursor: api.Place{Row: t.row, Col: t.col}}
+	for i, cells := range t.rows {
+		if i > 0 && i >= rows {
+			break
 		}
-		for _, s := range []*terminal{whole, pieces} {
-			if !s.shows(frame(3, x.row, x.col, x.rows[:]...)) || s.full != x.full || len(s.held) != x.held {
-				t.Errorf("behind %q the terminal shows %v, the cursor %d, %d, FULL %v, %q held", x.bytes, s.rows, s.row, s.col, s.full, s.held)
-			}
+		for len(cells) > 0 && cells[len(cells)-1] == blank {
+			cells = cells[:len(cells)-1]
 		}
+		f.Rows = append(f.Rows, slices.Clone(cells))
+	}
+	return f
+}
+
+// used answers how many rows there are up to the cursor's and the last one that isn't blank.
+func (t *terminal) used() int {
+	n := 1
+	for i, cells := range t.frame(t.high).Rows {
+		if i == t.row || len(cells) > 0 {
+			n = i + 1
+		}
+	}
+	return n
+}
+
+// alike answers whether the frames are the same in all.
+func alike(a, b api.Frame) bool {
+	return a.Width == b.Width && a.Cursor == b.Cursor && slices.EqualFunc(a.Rows, b.Rows, slices.Equal)
+}
+
+// wantAs asks for all that is seen of s to be as of x.
+func wantAs(t *testing.T, name string, s *screen.Screen, x *terminal) {
+	t.Helper()
+	want := x.frame(x.high)
+	if s.Width() != x.wide || s.Height() != x.high {
+		t.Fatalf("P22.1: %s: %d by %d, want %d by %d", name, s.Width(), s.Height(), x.wide, x.high)
+	}
+	if s.Held() != len(x.held) {
+		t.Fatalf("P22.2: %s: %d bytes are held, want %d", name, s.Held(), len(x.held))
+	}
+	if s.Cursor() != want.Cursor || s.Full() != x.full || s.Rows() != x.used() {
+		t.Fatalf("P22.3: %s: the cursor %v, FULL %v, %d rows, want %v, %v, %d", name, s.Cursor(), s.Full(), s.Rows(), want.Cursor, x.full, x.used())
+	}
+	if got := s.Frame(x.high); !alike(got, want) {
+		t.Fatalf("P22.2: %s: %v, want %v", name, got, want)
+	}
+	if !s.Shows(want) || !s.Shows(x.frame(x.used())) || s.Shows(x.frame(x.used()-1)) != (x.used() == 1) {
+		t.Fatalf("P22.5: %s: what is shown is not %v", name, want)
 	}
 }
